@@ -182,7 +182,7 @@ func TestP32_1VerbsInScenes(t *testing.T) {
 
 func TestP32_1Calls(t *testing.T) {
 	holds(t, `do 0 create 0, 1; expect nodes(0) = 1 & nodes(1) = 0 & nodes(2) = 0; expect up(0) & up(1) & up(2); expect in(0, 0) & in(0, 1) & !in(0, 2) & !in(1, 0);
-		expect same(0, 0) & same(1, 2) & !same(0, 1); expect mail(0, 1) = 1 & mail(1, 1) = 0 & mail(0, 0) = 0; calm 1; expect same(0, 1) & same(1, 0) & !same(0, 2) & nodes(0) = 2; expect said() = 0;
+		expect same(0, 0) & same(1, 2) & !same(0, 1) & !same(1, 0); expect mail(0, 1) = 1 & mail(1, 1) = 0 & mail(0, 0) = 0; calm 1; expect same(0, 1) & same(1, 0) & !same(0, 2) & nodes(0) = 2; expect said() = 0;
 		do 1 say "a"; do 0 say "b"; expect said() = 2 & inbox(0) = 1 & inbox(1) = 1; calm 1; expect inbox(0) = 2 & inbox(1) = 2 & inbox(2) = 0;`)
 	for _, k := range []string{"-1", "3", "8", "999999999", "1000000 * 1000000"} {
 		holds(t, fmt.Sprintf("let k = %s; expect nodes(k) = 0 & held(k) = 0 & inbox(k) = 0 & up(k) = 0 & in(k, 0) = 0 & in(k, k) = 0 & same(k, k) = 0 & same(0, k) = 0 & same(k, 0) = 0 & mail(0, k) = 0 & mail(k, 0) = 0 & open(k) = 0;", k))
@@ -190,6 +190,7 @@ func TestP32_1Calls(t *testing.T) {
 	holds(t, "do 0 create 0, 1; let k = 2; expect mail(k, 1) = 0 & mail(3, 1) = 0 & mail(4, 1) = 0 & in(0, 7) = 0 & in(0, -1) = 0;")
 	// 1 and 2 hold what 0 does last, as they lack what is ahead of it.
 	holds(t, "do 0 create 0, 1, 2; do 0 update; do 0 update; do 1 fetch 0, 1; expect held(1) = 1 & nodes(1) = 0; do 1 fetch 0, 0; expect nodes(1) > 1;")
+	holds(t, "do 0 create 0; do 1 create 1; expect nodes(0) = 1 & nodes(1) = 1 & !same(0, 1);")
 	// Two that did the same, in another order.
 	holds(t, "do 0 create 0, 1, 2; calm 3; do 1 update; do 2 update; calm 4; expect same(0, 1) & same(1, 2) & same(2, 0);")
 }

@@ -36,13 +36,17 @@ func TestP24_1Make(t *testing.T) {
 		api.Cook{Kind: api.CookOpen, Keys: []int{9, 9, 10, 0}},
 		api.Cook{Kind: api.CookSeen},
 		api.Cook{Kind: api.CookDraw},
+		api.Cook{Kind: api.CookPub, Keys: []int{3}},
+		api.Cook{Kind: api.CookAgree, Keys: []int{1, 4}},
+		api.Cook{Kind: api.CookOpen, Keys: []int{0, 1, 6}},
 	)
 	n := k.Draw("foe n")
 	hash, alone := k.Hash("t", b, n, b), k.Hash("alone")
 	pub := k.Pub(n)
 	agreed, _ := k.Agree(b, pub)
 	first, second := k.Mark(k.Seal(b, n, "s", hash, alone)), k.Mark(k.Seal(rawKey("raw"), rawKey("raw"), ""))
-	want := []api.Key{b, n, hash, alone, pub, agreed, first, hash, alone, rawKey("raw"), second, a, k.Draw("foe ")}
+	own, _ := k.Agree(n, pub)
+	want := []api.Key{b, n, hash, alone, pub, agreed, first, hash, alone, rawKey("raw"), second, a, k.Draw("foe "), k.Pub(alone), own, hash, alone}
 	if !slices.Equal(made, want) {
 		t.Errorf("%x, not %x", made, want)
 	}
@@ -65,7 +69,7 @@ func TestP24_1NoEffect(t *testing.T) {
 		{Kind: api.CookHash, Keys: []int{4}}, {Kind: api.CookHash, Keys: []int{0, -1}}, {Kind: api.CookHash, Keys: []int{math.MinInt}}, {Kind: api.CookDraw, Keys: []int{9}}, {Kind: api.CookRaw, Raw: rawKey("r"), Keys: []int{9}}, {Kind: api.CookSeen, Keys: []int{9}},
 		{Kind: api.CookPub}, {Kind: api.CookPub, Keys: []int{0, 9}}, {Kind: api.CookAgree}, {Kind: api.CookAgree, Keys: []int{0}}, {Kind: api.CookAgree, Keys: []int{0, 1}}, {Kind: api.CookSeal, Keys: []int{0}}, {Kind: api.CookSeal, Keys: []int{0, 0, 4}},
 		{Kind: api.CookOpen, Keys: []int{0, 0}}, {Kind: api.CookOpen, Keys: []int{1, 0, 3}}, {Kind: api.CookOpen, Keys: []int{0, 1, 3}}, {Kind: api.CookOpen, Keys: []int{0, 0, 2}}, {Kind: api.CookOpen, Keys: []int{0, 0, 1}},
-		{Kind: api.CookRaw, Raw: a}, {Kind: api.CookRaw, Raw: rawKey("term")}, {Kind: api.CookRaw, Raw: rawKey("term\xff\xff\xff\xff")},
+		{Kind: api.CookRaw, Raw: a}, {Kind: api.CookRaw, Raw: rawKey("term")}, {Kind: api.CookRaw, Raw: rawKey("term\xff\xff\xff\xff")}, {Kind: api.CookRaw, Raw: rawKey("term1234")},
 	} {
 		if got := foe.More(k, seen, full, c); !slices.Equal(got, full) {
 			t.Errorf("step %d: %x", i, got)

@@ -138,6 +138,7 @@ func TestP15_1Right(t *testing.T) {
 		"a small Seq":            func(l []api.Node) []api.Node { l[3].Op.Seq = 1; return l },
 		"a second first one":     func(l []api.Node) []api.Node { l[2].Op.Seq = 2; return l },
 		"two apart of an author": func(l []api.Node) []api.Node { l[2].Op.Author = 1; l[2].Op.Boxes = nil; return l[:3] },
+		"two apart, numbered":    func(l []api.Node) []api.Node { l[2].Op.Author, l[2].Op.Seq, l[2].Op.Boxes = 1, 2, nil; return l[:3] },
 		"no create":              func(l []api.Node) []api.Node { return l[1:2] },
 		"two creates":            func(l []api.Node) []api.Node { l[1].Op, l[1].Past = create(1), nil; return l[:2] },
 		"a first update":         func(l []api.Node) []api.Node { l[0].Op = update(0, 1, id(5)); return l[:1] },
@@ -258,9 +259,9 @@ func TestP15_3Add(t *testing.T) {
 		e  api.Errno
 	}{
 		{l[1:], id(4), o, api.ErrArg}, {l, id(4), invalid, api.ErrArg}, {l, id(1), invalid, api.ErrArg},
-		{l, id(1), o, api.ErrThere}, {l, id(1), update(0, 9, id(7)), api.ErrThere},
+		{l, id(0), o, api.ErrThere}, {l, id(1), o, api.ErrThere}, {l, id(3), o, api.ErrThere}, {l, id(1), update(0, 9, id(7)), api.ErrThere},
 		{l, id(4), update(0, 2, id(1), id(7)), api.ErrMissing}, {l, id(4), update(0, 9, id(4)), api.ErrMissing}, {nil, id(0), update(0, 1, id(7)), api.ErrMissing},
-		{l, id(4), create(5), api.ErrSeq}, {l, id(4), update(0, 1, id(1)), api.ErrSeq}, {l, id(4), update(0, 3, id(1)), api.ErrSeq}, {l, id(4), update(0, math.MaxUint32, id(1)), api.ErrSeq},
+		{l, id(4), create(5), api.ErrSeq}, {l[:1], id(1), create(5), api.ErrSeq}, {l, id(4), update(0, 1, id(1)), api.ErrSeq}, {l, id(4), update(0, 3, id(1)), api.ErrSeq}, {l, id(4), update(0, math.MaxUint32, id(1)), api.ErrSeq},
 		{l, id(4), update(1, 2, id(1)), api.ErrSeq}, {l, id(4), update(1, 1, id(0)), api.ErrSeq}, {l, id(4), update(1, 3, id(1)), api.ErrSeq},
 	} {
 		if got, e := graph.Add(x.l, x.id, x.o); e != x.e || len(got) != 0 {
@@ -329,7 +330,9 @@ func TestP15_4Heads(t *testing.T) {
 			t.Errorf("%d nodes: %x", n, got)
 		}
 	}
-	if len(graph.Heads(l[1:])) != 0 {
+	wrong := clone(l)
+	wrong[3].Op.Seq = 9
+	if len(graph.Heads(l[1:])) != 0 || len(graph.Heads(wrong)) != 0 {
 		t.Error("the heads of no graph")
 	}
 	wide := mustAdd(t, nil, id(0), create(0))

@@ -214,6 +214,27 @@ func TestP13_3Append(t *testing.T) {
 	if e := j.Append(""); e != api.ErrFull {
 		t.Errorf("an empty record in a full area: %d", e)
 	}
+	if full := mustOpen(t, d); full.Room() != 0 || !slices.Equal(full.Records(), j.Records()) {
+		t.Error("a full area is not opened")
+	}
+}
+
+func TestP13_3And4LongRecords(t *testing.T) {
+	d := disk.New(1024)
+	j := mustOpen(t, d)
+	long := strings.Repeat("r", 60000)
+	for n := range 2 {
+		if e := j.Append(long); e != api.OK {
+			t.Fatalf("record %d: %d", n, e)
+		}
+		size := (n + 1) * 60003
+		if l := mustOpen(t, d).Records(); len(l) != n+1 || l[n] != long || d.Settled(0)[:64] != mark(0, size) || j.Room() != 511*256-size {
+			t.Errorf("%d long records: %d", n+1, len(l))
+		}
+	}
+	if e := j.Snap(long); e != api.OK || !slices.Equal(mustOpen(t, d).Records(), []string{long}) {
+		t.Errorf("a long snap: %d", e)
+	}
 }
 
 func TestP13_3Writes(t *testing.T) {

@@ -1,6 +1,7 @@
 package member_test
 
 import (
+	"bytes"
 	"fmt"
 	"math/rand"
 	"slices"
@@ -209,7 +210,7 @@ func TestP20_1Right(t *testing.T) {
 	for name, change := range map[string]func(s *api.Member){
 		"Members 0": func(s *api.Member) { s.Members = 0 }, "Members 9": func(s *api.Member) { s.Members = 9 }, "Members -1": func(s *api.Member) { s.Members = -1 }, "Me -1": func(s *api.Member) { s.Me = -1 }, "Me 4": func(s *api.Member) { s.Me = 4 },
 		"no graph": func(s *api.Member) { s.Nodes = s.Nodes[1:] }, "no queue": func(s *api.Member) { s.Held = []api.Held{{}} }, "held twice": func(s *api.Member) { s.Held = []api.Held{held, held} },
-		"held and a node": func(s *api.Member) { s.Held = []api.Held{{Id: s.Nodes[1].Id, Op: s.Nodes[1].Op}} },
+		"held and a node": func(s *api.Member) { s.Held = []api.Held{{Id: s.Nodes[1].Id, Op: s.Nodes[1].Op}} }, "held and the first node": func(s *api.Member) { s.Held = []api.Held{{Id: s.Nodes[0].Id, Op: s.Nodes[0].Op}} },
 	} {
 		s := good
 		change(&s)
@@ -353,6 +354,7 @@ func TestP20_2ComposeErrors(t *testing.T) {
 		c.fails(0, in, api.ErrArg)
 	}
 	c.do(0, create(0, 1, 2))
+	c.fails(0, create(0, 1), api.ErrThere)
 	c.settle()
 	for _, x := range []struct {
 		who int
@@ -534,8 +536,10 @@ func TestP20_3OpErrors(t *testing.T) {
 	changed.Check[0]++ // its box is bound to its name
 	c.fails(1, takeOp(0, changed), api.ErrTag)
 	c.fails(0, takeOp(1, changed), api.ErrStranger) // 0 did not make it
-	changed.Author, changed.Who = 7, []int{0, 7}
-	c.fails(1, takeOp(0, changed), api.ErrArg)
+	for _, who := range []int{4, 7} {
+		changed.Author, changed.Who = who, []int{0, who}
+		c.fails(1, takeOp(0, changed), api.ErrArg)
+	}
 	c.settle()
 	c.fails(1, takeOp(2, o), api.ErrOld)
 	late := c.draft(0, api.OpUpdate)
@@ -547,6 +551,35 @@ func TestP20_3OpErrors(t *testing.T) {
 		t.Errorf("what waits is %v", c.m[1].Held)
 	}
 	c.fails(1, takeOp(2, late), api.ErrOld)
+}
+
+func TestP20_3WantedOfOneself(t *testing.T) {
+	k := suite.NewFree()
+	c := started(t, k, 3, 0, 1, 2)
+	own := c.draft(0, api.OpUpdate) // that 0 did not make
+	own.Boxes = []api.Box{{To: 1}}
+	late := c.draft(1, api.OpUpdate)
+	late.Parents = []api.Key{frame.Name(k, own)}
+	c.do(0, takeOp(1, c.craft(late, k.Draw("seed"))))
+	if wanted := queue.Wanted(c.m[0].Nodes, c.m[0].Held); !slices.Equal(wanted, late.Parents) {
+		t.Fatalf("%x is wanted", wanted)
+	}
+	c.fails(0, takeOp(1, own), api.ErrStranger)
+}
+
+func TestP20_3WantedOfAnOutsider(t *testing.T) {
+	k := suite.NewFree()
+	c := started(t, k, 4, 0, 1, 2)
+	outside := c.draft(0, api.OpUpdate)
+	outside.Author, outside.Seq, outside.Boxes = 3, 1, nil
+	late := c.draft(1, api.OpUpdate)
+	late.Parents = []api.Key{frame.Name(k, outside)}
+	c.do(0, takeOp(1, c.craft(late, k.Draw("seed"))))
+	before := c.m[0]
+	c.do(0, takeOp(1, outside))
+	if !member.Same(c.m[0], before) {
+		t.Error("an operation of an outsider, for nobody, is applied")
+	}
 }
 
 func TestP20_3HeldTillItIsFull(t *testing.T) {
@@ -661,71 +694,86 @@ func TestP20_3Applying(t *testing.T) {
 	}
 }
 
+// acks is an acknowledgement that a member may make of anything, with a key in place of its wait: only the rules forbid it.
+func (c *crowd) acks(author, kind int, of api.Key, ofOp api.Op) api.Op {
+	c.t.Helper()
+	o := c.draft(author, kind)
+	o.Of = of
+	key := c.k.Draw("in place of a wait")
+	return c.craft(c.checked(o, ofOp, key), key)
+}
+
+// nodeBy is the first node of a kind by an author that a member has.
+func (c *crowd) nodeBy(who, kind, author int) api.Node {
+	c.t.Helper()
+	for _, n := range c.m[who].Nodes {
+		if n.Op.Kind == kind && n.Op.Author == author {
+			return n
+		}
+	}
+	c.t.Fatalf("no node of the kind %d by %d", kind, author)
+	return api.Node{}
+}
+
 func TestP20_3Acknowledging(t *testing.T) {
 	k := suite.NewFree()
 	c := newCrowd(t, k, 5)
 	c.do(0, create(0, 1, 2))
-	c.settle()
+	c.calm()
+	c.do(1, update())
+	c.calm()
+	c.do(0, say("t"))
+	c.calm()
+	first, own, ack, said := c.nodeBy(2, api.OpCreate, 0), c.nodeBy(2, api.OpUpdate, 1), c.nodeBy(2, api.OpAck, 1), c.nodeBy(2, api.OpSay, 0)
+	c.takes("the same acknowledgement again", 0, c.acks(2, api.OpAck, first.Id, first.Op), false)
+	c.takes("of an acknowledgement", 0, c.acks(2, api.OpAck, ack.Id, ack.Op), false)
+	c.takes("of a message", 0, c.acks(2, api.OpAck, said.Id, said.Op), false)
+	c.takes("of what is not there", 0, c.acks(2, api.OpAck, api.Key{9}, api.Op{}), false)
+	c.takes("of one's own operation", 2, c.acks(1, api.OpAck, own.Id, own.Op), false)
+	c.takes("of a create, by an OpAddAck", 0, c.acks(2, api.OpAddAck, first.Id, first.Op), false)
+	c.takes("of an update, by an OpAddAck", 0, c.acks(2, api.OpAddAck, own.Id, own.Op), false)
+}
+
+func TestP20_3AcknowledgingWhatIsNotAhead(t *testing.T) {
+	k := suite.NewFree()
+	c := started(t, k, 3, 0, 1, 2)
 	c.do(0, update())
-	updates := c.mail
+	posts := c.mail
 	c.mail = nil
-	c.do(1, takeOp(0, updates[0].Frame.Op)) // 2 has no part in it yet
+	c.do(2, take(posts[1].Frame))
+	ack := c.mail[0].Frame.Op // by 2, of the update
 	c.mail = nil
-	c.do(2, takeOp(0, updates[1].Frame.Op))
-	ofUpdate := c.mail[0].Frame.Op // 2's acknowledgement, which 1 does not have
+	apart := ack
+	apart.Parents = []api.Key{c.nodeBy(2, api.OpAck, 2).Id} // the update is not in its past
+	c.takes("of what is there, but not ahead", 0, c.craft(apart), false)
+	c.do(1, take(posts[0].Frame))
+	other := c.mail[0].Frame.Op // by 1, of the update
 	c.mail = nil
-	s := c.m[2]
-	place := func(kind, author int) api.Key {
-		at := slices.IndexFunc(s.Nodes, func(n api.Node) bool { return n.Op.Kind == kind && n.Op.Author == author })
-		if at < 0 {
-			t.Fatalf("no node of the kind %d by %d", kind, author)
-		}
-		return s.Nodes[at].Id
-	}
-	create, ack1 := place(api.OpCreate, 0), place(api.OpAck, 1)
-	ack := func(kind int, of api.Key) api.Op {
-		o := ofUpdate
-		o.Kind, o.Of = kind, of
-		return o
-	}
-	c.takes("the same acknowledgement again", 1, c.craft(ack(api.OpAck, create)), false)
-	c.takes("an acknowledgement of an acknowledgement", 1, c.craft(ack(api.OpAck, ack1)), false)
-	c.takes("an acknowledgement of what is not there", 1, c.craft(ack(api.OpAck, api.Key{9})), false)
-	c.takes("an OpAddAck of an update", 1, c.craft(ack(api.OpAddAck, ofUpdate.Of)), false)
-	c.takes("an OpAddAck of a create", 1, c.craft(ack(api.OpAddAck, create)), false)
-	c.takes("the acknowledgement itself", 1, c.craft(ofUpdate), true)
+	c.takes("the first acknowledgement", 0, c.craft(other), true)
+	behind := ack
+	behind.Parents = append([]api.Key{frame.Name(k, other)}, ack.Parents...)
+	slices.SortFunc(behind.Parents, func(a, b api.Key) int { return bytes.Compare(a[:], b[:]) })
+	c.takes("the second one, behind the first", 0, c.craft(behind), true)
 }
 
 func TestP20_3AcknowledgingAdds(t *testing.T) {
 	k := suite.NewFree()
 	c := started(t, k, 5, 0, 1, 2)
 	c.do(0, add(3))
-	posts := c.mail
-	c.mail = nil
-	added := posts[0].Frame.Op
-	for _, p := range posts {
-		if p.To != 3 {
-			c.do(p.To, take(p.Frame))
+	c.calm()
+	added := c.nodeBy(1, api.OpAdd, 0)
+	for who, want := range [][]int{{api.OpCreate, api.OpAdd}, {api.OpAck, api.OpAddAck}, {api.OpAck, api.OpAddAck}, {api.OpAck}} {
+		for other := range 4 {
+			if got := kindsBy(c.m[other], who); !slices.Equal(got, want) {
+				t.Errorf("%d has %d by %d, not %d", other, got, who, want)
+			}
 		}
 	}
-	var acks []api.Op
-	for _, p := range c.mail {
-		if p.To == 0 {
-			acks = append(acks, p.Frame.Op)
-		}
-	}
-	c.mail = nil
-	if len(acks) != 2 || acks[0].Kind != api.OpAddAck || acks[0].Of != frame.Name(k, added) {
-		t.Fatalf("%v", acks)
-	}
-	wrong := acks[0]
-	wrong.Kind = api.OpAck // of an add of another one
-	c.takes("an OpAck of an add of another member", 0, c.craft(wrong), false)
-	c.takes("an OpAddAck", 0, c.craft(acks[0]), true)
-	again := c.draft(acks[0].Author, api.OpAddAck)
-	again.Of = acks[0].Of
-	again = c.checked(again, added)
-	c.takes("an OpAddAck again", 0, c.craft(again), false)
+	c.takes("an OpAck of an add of another member", 0, c.acks(1, api.OpAck, added.Id, added.Op), false)
+	c.takes("an OpAddAck again", 0, c.acks(1, api.OpAddAck, added.Id, added.Op), false)
+	c.takes("an OpAddAck of one's own add", 1, c.acks(0, api.OpAddAck, added.Id, added.Op), false)
+	c.takes("an OpAck of an add, again", 0, c.acks(3, api.OpAck, added.Id, added.Op), false)
+	c.takes("an OpAddAck of an add of oneself", 0, c.acks(3, api.OpAddAck, added.Id, added.Op), false)
 }
 
 // kindsBy are the kinds of an author's operations that a member has.
@@ -820,6 +868,21 @@ func TestP20_3RemovalOfAnother(t *testing.T) {
 	c.give(0, 2)
 	if !c.has(2, o) || c.m[2].Draws != out.Draws || !slices.Equal(kindsBy(c.m[2], 2), kindsBy(out, 2)) {
 		t.Errorf("the one who is out: it has its removal: %v; it did %d", c.has(2, o), kindsBy(c.m[2], 2))
+	}
+}
+
+func TestP20_3AddOfAnother(t *testing.T) {
+	k := suite.NewFree()
+	c := started(t, k, 5, 0, 1, 2)
+	c.do(0, add(3))
+	adding := c.mail
+	c.mail = nil
+	c.do(1, add(4)) // at the same time: 3 has no box of it
+	other := c.mail[0].Frame.Op
+	c.mail = append(adding, c.mail...)
+	c.calm()
+	if !c.has(3, other) || !slices.Equal(kindsBy(c.m[3], 3), []int{api.OpAck}) {
+		t.Errorf("3 has the other add: %v; it did %d", c.has(3, other), kindsBy(c.m[3], 3))
 	}
 }
 

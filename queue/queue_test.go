@@ -131,7 +131,7 @@ func TestP19_2Put(t *testing.T) {
 		e api.Errno
 	}{
 		{many(25), h, api.ErrArg}, {wrong()[1], h, api.ErrArg}, {q, bad, api.ErrArg}, {q, badThere, api.ErrArg}, {many(24), bad, api.ErrArg},
-		{q, there, api.ErrThere}, {many(24), there, api.ErrThere}, {many(24), h, api.ErrFull}, {many(23), h, api.OK}, {nil, h, api.OK}, {q, create(1), api.OK},
+		{q, held(100, id(5)), api.ErrThere}, {q, there, api.ErrThere}, {many(24), there, api.ErrThere}, {many(24), h, api.ErrFull}, {many(23), h, api.OK}, {nil, h, api.OK}, {q, create(1), api.OK},
 	} {
 		if got, e := queue.Put(x.q, x.h); e != x.e || e != api.OK && len(got) != 0 {
 			t.Errorf("case %d: %d, not %d", i, e, x.e)

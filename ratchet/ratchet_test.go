@@ -275,6 +275,33 @@ func TestP14_3ReceiveErrors(t *testing.T) {
 	}
 }
 
+func TestP14_3LastNumbers(t *testing.T) {
+	const last = math.MaxUint32
+	k := suite.NewFree()
+	up, down := pair(t, k)
+	receive(t, k, &down, send(t, k, &up, "a"))
+	at := func(s api.Session, nr uint32) api.Session {
+		s.Nr = nr
+		return s
+	}
+	known := api.Head{Pub: down.Theirs, N: last}
+	refuse(t, k, at(down, last-1), letter{head: known}, api.ErrFar)
+	refuse(t, k, at(down, last), letter{head: known}, api.ErrFar)
+	known.N--
+	refuse(t, k, at(down, last-1), letter{head: known}, api.ErrTag)
+	refuse(t, k, at(down, last-2), letter{head: known}, api.ErrTag)
+	other := api.Head{Pub: k.Pub(k.Draw("x")), Prev: last}
+	refuse(t, k, at(down, last), letter{head: other}, api.ErrPub) // it may turn
+	send(t, k, &down, "turn")
+	refuse(t, k, at(down, last), letter{head: other}, api.ErrFar)
+	refuse(t, k, at(down, last-1), letter{head: other}, api.ErrFar)
+	other.Prev--
+	refuse(t, k, at(down, last-1), letter{head: other}, api.ErrTag)
+	refuse(t, k, at(down, last), letter{head: other}, api.ErrPub)
+	other.N = last
+	refuse(t, k, at(down, last-1), letter{head: other}, api.ErrFar)
+}
+
 // manySkips has keys of messages that never come.
 func manySkips(k suite.Kit, n int) []api.Skip {
 	var l []api.Skip

@@ -115,11 +115,15 @@ func TestP9_1OpenOddBoxes(t *testing.T) {
 		{number(2) + "ab" + keys[:33], "", 0, false},
 		{"\xff\xff\xff\xffab", "", 0, false},
 		{"\x80\x00\x00\x02ab", "", 0, false},
+		{"\x00\x01\x00\x02ab", "", 0, false},
+		{"\x00\x00\x01\x02ab", "", 0, false},
+		{number(258) + strings.Repeat("t", 258) + keys, strings.Repeat("t", 258), 2, true},
+		{number(66000) + strings.Repeat("t", 66000), strings.Repeat("t", 66000), 0, true},
 	} {
 		box, _ := aead.Seal(key, noNonce, x.inside, string(by[:]))
 		text, got, ok := suite.Real{}.Open(key, by, box)
 		if text != x.text || len(got) != x.keys || ok != x.ok {
-			t.Errorf("%q: %q, %x, %v", x.inside, text, got, ok)
+			t.Errorf("%.50q: %.50q, %x, %v", x.inside, text, got, ok)
 		}
 	}
 }

@@ -345,6 +345,8 @@ func TestP25_2Forge(t *testing.T) {
 	do(t, w, forge(head, unseen), api.ErrStranger)
 	do(t, w, api.Act{Kind: api.ActForge, Who: 1, Frame: api.Frame{Kind: api.FrameHave, From: 1}}, api.ErrArg)
 	do(t, w, api.Act{Kind: api.ActForge, Who: 1, Frame: api.Frame{Kind: api.FrameHave, From: 7}}, api.ErrArg)
+	do(t, w, api.Act{Kind: api.ActForge, Who: 1, Frame: api.Frame{Kind: api.FrameHave, From: 9, Ids: []api.Key{unseen}}}, api.ErrArg)
+	do(t, w, api.Act{Kind: api.ActForge, Who: 1, Frame: api.Frame{Kind: api.FrameHave, From: 7, Ids: []api.Key{unseen}}}, api.ErrStranger)
 	last := stateOf(w, 0).Nodes[2].Op
 	replayed := api.Act{Kind: api.ActForge, Who: 0, Frame: api.Frame{Kind: api.FrameOp, From: 2, Op: last}}
 	do(t, w, replayed, api.ErrOld)
