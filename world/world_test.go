@@ -431,16 +431,7 @@ func TestP25_3Calm(t *testing.T) {
 		}
 		for who := range 4 {
 			do(t, twin, step(who, tick()), api.OK)
-		fetching:
-			for to := 0; to < 4; to++ {
-				for r := range 3 {
-					if len(twin.Mail(r, to)) > 0 {
-						twin.Do(api.Act{Kind: api.ActFetch, Who: to, Relay: r})
-						to = -1
-						continue fetching
-					}
-				}
-			}
+			fetchAll(twin, 4, 3, 500)
 		}
 	}
 	if !slices.Equal(w.Frames(), twin.Frames()) {
@@ -461,6 +452,48 @@ func TestP25_3Calm(t *testing.T) {
 	}
 	if len(w.Frames()) != frames {
 		t.Error("no rounds do something")
+	}
+}
+
+// fetchAll fetches the first frame of the first member with mail at the first relay, as often as it may be; it tells whether that was enough.
+func fetchAll(w *world.World, members, relays, most int) bool {
+	for range most {
+		who, relay := 0, 0
+		for who < members && len(w.Mail(relay, who)) == 0 {
+			if relay++; relay == relays {
+				who, relay = who+1, 0
+			}
+		}
+		if who == members {
+			return true
+		}
+		w.Do(api.Act{Kind: api.ActFetch, Who: who, Relay: relay})
+	}
+	return false
+}
+
+func TestP25_3CalmWithMuchMail(t *testing.T) {
+	p := api.Place{Members: 8, Relays: 4, Blocks: 1024}
+	w, twin, free := mustNew(t, p, false), mustNew(t, p, false), mustNew(t, p, false)
+	for _, x := range []*world.World{w, twin, free} {
+		do(t, x, step(0, create(0, 1, 2, 3, 4, 5, 6, 7)), api.OK)
+		for range 100 {
+			do(t, x, step(0, tick()), api.OK)
+		}
+	}
+	w.Calm(1)
+	enough := true
+	for who := range 8 {
+		do(t, twin, step(who, tick()), api.OK)
+		enough = fetchAll(twin, 8, 4, 500) && enough
+		do(t, free, step(who, tick()), api.OK)
+		fetchAll(free, 8, 4, 100000)
+	}
+	if enough || slices.Equal(twin.Frames(), free.Frames()) {
+		t.Fatal("a test's mail is too little")
+	}
+	if !slices.Equal(w.Frames(), twin.Frames()) {
+		t.Error("other frames than with 500 fetches at once")
 	}
 }
 
